@@ -25,6 +25,11 @@ OWN_OF_PYTHON = """
     ord repr any all divmod Exception ValueError TypeError KeyError IndexError LookupError ZeroDivisionError
     ArithmeticError OverflowError RuntimeError NotImplementedError AttributeError StopIteration
 """.split()
+METHODS_OF_PYTHON = """
+    append clear copy count endswith extend find get index insert isalnum isalpha isdigit islower isspace isupper items
+    join keys ljust lower lstrip partition pop remove replace reverse rfind rjust rpartition rsplit rstrip setdefault
+    split splitlines startswith strip update upper values zfill bit_length sort
+""".split()
 TWO_UNDERSCORES = ["__init__", "__eq__", "__repr__", "__str__", "__len__"]
 UNUSED_WORDS = re.compile(
     r"\b(type|typing|typing_extensions|enum|Enum|IntEnum|StrEnum|Flag|IntFlag|Generic|Protocol|ABC|ABCMeta|namedtuple"
@@ -74,6 +79,14 @@ def name_faults(name, row):
         yield f"L12: row {row} has the name {name}"
 
 
+def compare_faults(node):
+    sides = [node.left, *node.comparators]
+    for at, sign in enumerate(node.ops):
+        plain = any(isinstance(side, ast.Constant) and side.value in (None, True, False) for side in sides[at:at + 2])
+        if isinstance(sign, (ast.Is, ast.IsNot)) and not plain:
+            yield f"L20: row {node.lineno} asks whether two are the very same"
+
+
 def node_faults(node):
     kind = node.__class__.__name__
     row = getattr(node, "lineno", 0)
@@ -89,6 +102,10 @@ def node_faults(node):
         yield from name_faults(node.name, row)
     if isinstance(node, ast.arg):
         yield from name_faults(node.arg, row)
+        if hasattr(builtins, node.arg):
+            yield f"L15: row {row} has a parameter called {node.arg}"
+    if isinstance(node, ast.Compare):
+        yield from compare_faults(node)
     if isinstance(node, ast.Attribute):
         yield from name_faults(node.attr, row)
     if isinstance(node, ast.Name):
@@ -109,6 +126,49 @@ def faults(text):
     return found
 
 
+def shadow_faults(tree):
+    """Parameters and locals that are called like a class or an import of their file (L15)."""
+    tops = {row.name for row in tree.body if isinstance(row, ast.ClassDef)}
+    tops |= {name.asname or name.name for row in tree.body if isinstance(row, ast.ImportFrom) for name in row.names}
+    for node in ast.walk(tree):
+        name = node.arg if isinstance(node, ast.arg) else getattr(node, "id", None)
+        if name in tops and not isinstance(getattr(node, "ctx", None), ast.Load):
+            yield f"L15: row {node.lineno} gives the name {name}"
+
+
+def methods_in(tree):
+    return {
+        row.name for node in ast.walk(tree) if isinstance(node, ast.ClassDef)
+        for row in node.body if isinstance(row, ast.FunctionDef)
+    }
+
+
+def values_in(tree):
+    """What objects are given."""
+    return {
+        node.attr for node in ast.walk(tree) if isinstance(node, ast.Attribute) and isinstance(node.ctx, ast.Store)
+    }
+
+
+def package_faults(texts):
+    """What is seen only where all files are looked at (L15, L18, L24, L25)."""
+    trees = [ast.parse(text) for text in texts]
+    methods = set().union(*[methods_in(tree) for tree in trees])
+    values = set().union(*[values_in(tree) for tree in trees])
+    found = [f"L18: {name} is a method and a value" for name in sorted(methods & values)]
+    for tree in trees:
+        found.extend(shadow_faults(tree))
+        called = {id(node.func) for node in ast.walk(tree) if isinstance(node, ast.Call)}
+        for node in ast.walk(tree):
+            if not isinstance(node, ast.Attribute):
+                continue
+            if id(node) in called and node.attr not in methods and node.attr not in METHODS_OF_PYTHON:
+                found.append(f"L25: row {node.lineno} calls {node.attr}")
+            if id(node) not in called and node.attr not in values:
+                found.append(f"L18: row {node.lineno} asks for {node.attr}")
+    return found
+
+
 class FormTest(unittest.TestCase):
     def test_only_plain_files_lie_in_the_package(self):
         for path in PACKAGE.rglob("*"):
@@ -124,6 +184,24 @@ class FormTest(unittest.TestCase):
             with self.subTest(path.name):
                 self.assertEqual(faults(path.read_bytes().decode("utf-8")), [])
 
+    def test_the_files_together_keep_to_the_language(self):
+        self.assertEqual(package_faults([path.read_text("utf-8") for path in PACKAGE.rglob("*.py")]), [])
+
+    def test_what_is_outside_in_several_files_is_seen(self):
+        one = "class A:\n    def go(self):\n        self.many = 1\n"
+        self.assertEqual(package_faults([one, "def f(box):\n    return box.go() + box.many\n"]), [])
+        for other in (
+            "def f(box):\n    box.go = 5\n",
+            "def f(box):\n    return box.gone()\n",
+            "def f(box):\n    return box.few\n",
+            "def f(box):\n    return box.intersection([])\n",
+            "class B:\n    def many(self):\n        return 1\n",
+            "from shellround.ring import onward\n\n\ndef f(onward):\n    return onward\n",
+            "class B:\n    pass\n\n\ndef f(x):\n    B = x\n    return B\n",
+        ):
+            with self.subTest(other):
+                self.assertNotEqual(package_faults([one, other]), [])
+
     def test_what_is_outside_is_seen(self):
         outside = [
             "import os\n",
@@ -136,7 +214,9 @@ class FormTest(unittest.TestCase):
             "def f(xs):\n    return sum(x for x in xs)\n",
             "def f(xs):\n    yield xs\n",
             "def f(x):\n    return chr(x)\n",
-            "def f(sum):\n    return [len for len in sum]\n",
+            "def f(x):\n    return [len for len in x]\n",
+            "def f(sum):\n    return 1\n",
+            "def f(x, y):\n    return x is y\n",
             "def f(x):\n    _y = x\n    return _y\n",
             "def f(x):\n    with x:\n        return 1\n",
             "def f():\n" + "    pass\n" * 40,
