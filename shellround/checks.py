@@ -1,11 +1,11 @@
-"""What a house's deeds refuse, looked at in the state in which a deed is to be done."""
+"""What a house's deeds and the questions to it refuse, looked at in the state that the house has."""
 
 from shellround.errors import (
-    BadName, BadSeason, NoFleet, NoPerson, NoThing, NotNeighbours, NotPartners, Promised, Taken, WrongWay,
+    BadName, BadSeason, NoFleet, NoGift, NoPerson, NoThing, NotNeighbours, NotPartners, Promised, Taken, WrongWay,
 )
 from shellround.names import is_name
 from shellround.ring import ahead_of
-from shellround.state import bond_for, standing_promise
+from shellround.state import bond_for, is_for_another, standing_promise
 
 LAST_SEASON = 1000000
 
@@ -44,6 +44,12 @@ def check_thing(state, name):
         raise NoThing("no thing has the name")
 
 
+def check_gift(state, number):
+    """Refuses a number that no gift of the house has."""
+    if number < 0 or number >= len(state.gifts):
+        raise NoGift("gifts are numbered from 0 to below their count")
+
+
 def check_passing(state, name, receiver):
     """Refuses a thing that may not go from its holder to the receiver, whatever fleets and promises are."""
     check_thing(state, name)
@@ -64,8 +70,7 @@ def check_fleet(state, holder, receiver):
 
 def check_not_for_another(state, name, receiver):
     """Refuses a thing that has a standing promise to somebody else than the receiver."""
-    number = standing_promise(state, name)
-    if number is not None and state.promises[number][2] != receiver:
+    if is_for_another(state, name, receiver):
         raise Promised(f"{name} is promised to somebody else")
 
 

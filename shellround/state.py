@@ -95,6 +95,12 @@ def standing_promise(state, name):
     return None
 
 
+def is_for_another(state, name, receiver):
+    """Whether a thing has a standing promise to somebody else than the receiver."""
+    number = standing_promise(state, name)
+    return number is not None and state.promises[number][2] != receiver
+
+
 def with_promise_kept(promises, number):
     """The promises, the one of the number being kept; the same ones where it is None."""
     if number is None:

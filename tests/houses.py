@@ -1,8 +1,10 @@
 """What the tests of houses have in common."""
 
+import copy
 import unittest
 
-from shellround.errors import NothingLeft
+from shellround import asks
+from shellround.errors import NothingLeft, RoundError
 from shellround.house import House
 
 FIFTY = 10 ** 49 + 7
@@ -11,28 +13,59 @@ NO_NAMES = ["", "A", "Ana", "1a", "an a", " ana", "ana ", "ana\n", "a-b", "a_b",
 
 
 def look(house):
-    """All that a house keeps, in values of the asker's own."""
-    state = house.state
+    """All that a house tells of what it keeps, but what is told of its deeds."""
     return {
-        "people": list(state.people.items()),
+        "people": [(name, asks.island_of(house, name)) for name in asks.people(house)],
         "partners": {
-            pair: (list(numbers), [numbers[at] for at in pairing.settled()])
-            for pair, (pairing, numbers) in state.bonds.items()
+            (name, ahead): (asks.gifts_between(house, name, ahead), settled(house, name, ahead))
+            for name in asks.people(house) for ahead in asks.partners_of(house, name)[1]
         },
         "things": [
-            (name, thing.kind, thing.made + thing.steps() // house.islands, thing.holder(), list(thing.line))
-            for name, thing in state.things.items()
+            (name, *asks.thing_of(house, name), asks.line_of(house, name)) for name in asks.things(house)
         ],
-        "fleets": dict(state.fleets),
-        "gifts": list(state.gifts),
-        "promises": list(state.promises),
-        "season": state.now,
+        "fleets": dict(asks.fleets(house)),
+        "gifts": asks.gifts(house),
+        "promises": asks.vows(house),
+        "season": asks.season_now(house),
     }
+
+
+def settled(house, behind, ahead):
+    """The numbers of two partners' gifts that are in pairs, rising."""
+    return sorted(number for pair in asks.answers(house, behind, ahead) for number in pair)
+
+
+def asked_twice(test, ask):
+    """What is told, the second time; all lists in what was told first are changed ahead of that."""
+    first = ask()
+    kept = copy.deepcopy(first)
+    spoil(first)
+    second = ask()
+    test.assertEqual(second, kept)
+    return second
+
+
+def spoil(told):
+    """Turns about each list in what was told, and gives it one more."""
+    if isinstance(told, (list, tuple)):
+        for part in told:
+            spoil(part)
+    if isinstance(told, list):
+        told.reverse()
+        told.append("more")
 
 
 def do(house, deed):
     """Does a deed that is told as a tuple."""
     return getattr(house, deed[0])(*deed[1:])
+
+
+def ended(ask):
+    """How something ends: with what it told, or with the refusal's class and word."""
+    try:
+        return ("told", ask())
+    except RoundError as refusal:
+        return (type(refusal), refusal.word)
 
 
 def do_all(house, *deeds):

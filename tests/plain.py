@@ -1,4 +1,4 @@
-"""Points 10 to 16 in their own words, told the plain way: what the tests hold houses against.
+"""Points 10 to 16, and 18's texts, in their own words, told the plain way: what the tests hold houses against.
 
 A plain house is a dict; a deed is tried on a deep copy of it. It has no part of the program but the refusals' classes.
 """
@@ -10,6 +10,14 @@ import putting
 from shellround import errors
 
 NAME = re.compile(r"[a-z][a-z0-9]{0,11}")
+NUMBER = re.compile(r"0|[1-9][0-9]{0,8}")
+DEED_FORMS = (
+    "person NAME NUMBER", "partners NAME NAME", "part NAME NAME", "make NAME NAME NUMBER NAME", "sail NUMBER NAME",
+    "home NUMBER", "give NAME NAME", "vow NAME NAME NUMBER", "season",
+)
+DEED_TEXT = re.compile("|".join(
+    form.replace("NAME", NAME.pattern).replace("NUMBER", f"(?:{NUMBER.pattern})") for form in DEED_FORMS
+))
 
 
 def empty(islands):
@@ -55,6 +63,12 @@ def rank_of(plain, name):
         given -= plain["islands"]
         rank += 1
     return rank
+
+
+def pair_of(plain, number):
+    """The two between whom a gift went, the one behind first."""
+    thing, giver, receiver = plain["gifts"][number][1:4]
+    return (giver, receiver) if plain["things"][thing]["kind"] == "necklace" else (receiver, giver)
 
 
 def standing(plain, name):
@@ -209,3 +223,7 @@ def done(plain, deed):
     after = copy.deepcopy(plain)
     told = DEEDS[deed[0]](after, *deed[1:])
     return after, told
+
+
+def text_of(deed):
+    return " ".join(str(part) for part in deed)
